@@ -89,8 +89,8 @@ func TestExample(t *testing.T) {
 
 // faults is all of which Check has a word, but held, in its order, each made by itself of what was as it should be.
 var faults = []struct {
-	word string
-	make func(a *all)
+	word  string
+	spoil func(a *all)
 }{
 	{"config", func(a *all) { a.config.Shards = 5 }},
 	{"right", func(a *all) { a.list[4].Begin = a.list[4].Mark }},
@@ -132,7 +132,7 @@ func TestFirstWord(t *testing.T) {
 			if set>>i&1 == 0 {
 				continue
 			}
-			f.make(&a)
+			f.spoil(&a)
 			if want == "" {
 				want = f.word
 			}

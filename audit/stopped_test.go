@@ -14,7 +14,7 @@ import (
 	"stopgate/wire"
 )
 
-// isStopped is what the chapter says of Stopped, word by word.
+// isStopped is what the chapter says of Stopped, word by word: a Kill is 4, a Rearm 5, an Order 0, a New 0; OK is 0, Malformed 1, Killed 2.
 func isStopped(l []hist.Entry, out []model.Out, at []int) bool {
 	for _, k := range l {
 		if k.Op.Sweep || k.Op.Msg.Kind != 4 || k.End == 0 || k.Answer.Code != 0 {
@@ -206,7 +206,7 @@ func TestStoppedOfAny(t *testing.T) {
 	}
 }
 
-// P14.1: many at once, of the times of which there are many.
+// P14.1: many Kills, Rearms and Orders at once, spread over a long time.
 func TestStoppedOfMore(t *testing.T) {
 	r := rand.New(rand.NewSource(5))
 	met := map[bool]int{}
